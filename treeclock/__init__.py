@@ -1,0 +1,1 @@
+"""Treeclock: clocks of hands that part and come together."""
