@@ -116,3 +116,74 @@ def tell_the_same(one, other):
 def field_of(tree, depth):
     """What the tree tells of all stretches of that depth, in a row."""
     return tuple(told_at(tree, way) for way in product((0, 1), repeat=depth))
+
+
+def common_ways(*trees):
+    """The ways to the stretches of which each tree tells one number; they are the whole field together."""
+    ways = {way for tree in trees for way in leaf_ways(tree)}
+    return sorted(way for way in ways if all(told_at(tree, way) is not None for tree in trees))
+
+
+def rows_told(*trees):
+    """What the trees tell, a row for each stretch of common_ways."""
+    return [tuple(told_at(tree, way) for tree in trees) for way in common_ways(*trees)]
+
+
+def rest_of(part):
+    """The part tree of all that isn't in the part."""
+    return 1 - part if isinstance(part, int) else (rest_of(part[0]), rest_of(part[1]))
+
+
+def sided_part(depth, side, beside=0, bottom=1):
+    """A part tree with bottom that many steps down, to one side all along."""
+    tree = bottom
+    for step in range(depth):
+        tree = (beside, tree) if side else (tree, beside)
+    return tree
+
+
+def sided_count(depth, side, number=1, bottom=1):
+    """A count tree with bottom that many steps down, to one side all along."""
+    tree = bottom
+    for step in range(depth):
+        tree = (number, 0, tree) if side else (number, tree, 0)
+    return tree
+
+
+def drawn_part(draw, depth):
+    """A drawn part tree, plain or not, of that depth at most."""
+    if depth == 0 or draw.randrange(4) == 0:
+        return draw.randrange(2)
+    return (drawn_part(draw, depth - 1), drawn_part(draw, depth - 1))
+
+
+def drawn_count(draw, depth, most=3):
+    """A drawn count tree, plain or not, of that depth at most."""
+    if depth == 0 or draw.randrange(4) == 0:
+        return draw.randrange(most + 1)
+    return (draw.randrange(most + 1), drawn_count(draw, depth - 1, most), drawn_count(draw, depth - 1, most))
+
+
+def text_of(tree):
+    """How the document writes a tree, plain or not, or a thing like one."""
+    return repr(tree).replace(" ", "")
+
+
+# Trees some thirty deep, to either side and on changing ones.
+DEEP_PARTS = tuple(
+    tree for depth in (29, 30, 31, 40)
+    for tree in (
+        deep_part(depth, 1), deep_part(depth, 0, 1), deep_part(depth - 1, (1, 0), 1),
+        sided_part(depth, 0), sided_part(depth, 1), sided_part(depth, 0, 1, 0), sided_part(depth, 1, 1, 0),
+        (sided_part(depth - 1, 1), sided_part(depth - 1, 0)), (sided_part(depth - 1, 0, 1, 0), deep_part(depth - 1, 1)),
+    )
+)
+
+DEEP_COUNTS = tuple(
+    tree for depth in (29, 30, 31, 40)
+    for tree in (
+        deep_count(depth, 1), deep_count(depth, 0, 5), deep_count(depth - 1, (3, 0, 10 ** 30)),
+        sided_count(depth, 0), sided_count(depth, 1), sided_count(depth, 0, 0, 7), sided_count(depth, 1, 0, 10 ** 70),
+        (2, sided_count(depth - 1, 1), sided_count(depth - 1, 0, 0)), (0, 0, deep_count(depth - 1, 2)),
+    )
+)

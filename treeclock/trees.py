@@ -4,7 +4,7 @@
 def is_part(thing):
     if is_whole(thing):
         return thing == 0 or thing == 1
-    if not is_tuple_of(thing, 2) or thing == (0, 0) or thing == (1, 1):
+    if not is_tuple_of(thing, 2) or are_same_number(thing[0], thing[1]):
         return False
     return is_part(thing[0]) and is_part(thing[1])
 
@@ -26,41 +26,43 @@ def plain_part(tree):
     if is_whole(tree):
         return tree
     # From below upwards, since halves made plain can become the same number.
-    one = plain_part(tree[0])
-    other = plain_part(tree[1])
-    if is_whole(one) and one == other:
-        return one
-    return (one, other)
+    return plain_pair(plain_part(tree[0]), plain_part(tree[1]))
+
+
+def plain_pair(one, other):
+    return one if are_same_number(one, other) else (one, other)
 
 
 def plain_count(tree):
     if is_whole(tree):
         return tree
     # From below upwards, since halves made plain can get a higher front.
-    one = plain_count(tree[1])
-    other = plain_count(tree[2])
+    return plain_triple(tree[0], plain_count(tree[1]), plain_count(tree[2]))
+
+
+def plain_triple(number, one, other):
     shared = min(front(one), front(other))
-    one = lowered(one, shared)
-    other = lowered(other, shared)
-    if one == 0 and other == 0:
-        return tree[0] + shared
-    return (tree[0] + shared, one, other)
+    if are_same_number(one, other):
+        return number + shared
+    return (number + shared, lifted(one, -shared), lifted(other, -shared))
 
 
 def front(count):
     return count if is_whole(count) else count[0]
 
 
-def lowered(count, by):
+def lifted(count, by):
     if is_whole(count):
-        return count - by
-    return (count[0] - by, count[1], count[2])
+        return count + by
+    return (count[0] + by, count[1], count[2])
 
 
 def are_plain_halves(one, other):
-    if one == 0 and other == 0:
-        return False
-    return front(one) == 0 or front(other) == 0
+    return not are_same_number(one, other) and min(front(one), front(other)) == 0
+
+
+def are_same_number(one, other):
+    return is_whole(one) and one == other
 
 
 def is_whole(thing):
